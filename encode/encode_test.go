@@ -10,20 +10,8 @@ import (
 	"footbridge/api"
 	"footbridge/encode"
 	"footbridge/pair"
-	"footbridge/vocab"
+	"footbridge/sample"
 )
-
-// rowsOf are the 256 bytes, and then these.
-func rowsOf(more ...string) []api.Row {
-	var l []api.Row
-	for b := range 256 {
-		l = append(l, api.Row{Token: string([]byte{byte(b)}), Rank: b})
-	}
-	for n, s := range more {
-		l = append(l, api.Row{Token: s, Rank: 256 + n})
-	}
-	return l
-}
 
 // mixed are the same rows, with their ranks dealt out anew among more than there are rows.
 func mixed(some *rand.Rand, rows []api.Row, among int) []api.Row {
@@ -34,38 +22,6 @@ func mixed(some *rand.Rand, rows []api.Row, among int) []api.Row {
 	return rows
 }
 
-// tablesOf are the 256 bytes, a token for each two that are told as "a+b", if they make a new one, and their pairs.
-func tablesOf(both ...string) api.Tables {
-	var more []string
-	var pairs []api.Pair
-	for _, s := range both {
-		left, right, _ := strings.Cut(s, "+")
-		pairs = append(pairs, api.Pair{Left: left, Right: right})
-		if !slices.Contains(more, left+right) {
-			more = append(more, left+right)
-		}
-	}
-	return api.Tables{Rows: rowsOf(more...), Pairs: pairs}
-}
-
-func byRank(t *testing.T, rows []api.Row, specials ...api.Special) api.Vocab {
-	t.Helper()
-	v, err := vocab.FromRows(rows, specials)
-	if err != api.OK {
-		t.Fatal("FromRows:", err)
-	}
-	return v
-}
-
-func byPairs(t *testing.T, x api.Tables, specials ...api.Special) api.Vocab {
-	t.Helper()
-	v, err := vocab.FromTables(x, specials)
-	if err != api.OK {
-		t.Fatal("FromTables:", err)
-	}
-	return v
-}
-
 func coderOf(t *testing.T, v api.Vocab) *encode.Coder {
 	t.Helper()
 	c, err := encode.New(v)
@@ -73,10 +29,6 @@ func coderOf(t *testing.T, v api.Vocab) *encode.Coder {
 		t.Fatal("New:", err)
 	}
 	return c
-}
-
-func clone(v api.Vocab) api.Vocab {
-	return api.Vocab{Tokens: slices.Clone(v.Tokens), Merges: slices.Clone(v.Merges), Specials: slices.Clone(v.Specials)}
 }
 
 // numbers are those of tokens that are told with blanks between.
@@ -104,7 +56,7 @@ type words struct {
 }
 
 func wordsOf(v api.Vocab) words {
-	w := words{v: clone(v), merges: map[[2]int]api.Merge{}}
+	w := words{v: sample.Clone(v), merges: map[[2]int]api.Merge{}}
 	for _, m := range v.Merges {
 		w.merges[[2]int{m.Left, m.Right}] = m
 	}
@@ -256,19 +208,19 @@ func (x both) checkSome(some *rand.Rand, of string, count, most int) {
 func several(t *testing.T) map[string]api.Vocab {
 	t.Helper()
 	some := rand.New(rand.NewSource(141))
-	far := byPairs(t, tablesOf("b+c", "a+b", "ab+c", "a+a"))
+	far := sample.ByPairs(sample.Tables("b+c", "a+b", "ab+c", "a+a"))
 	for n, order := range []int{0, 1, 1<<20 - 1, 1 << 20} {
 		far.Merges[n].Order = order
 	}
 	return map[string]api.Vocab{
-		"ranks":             byRank(t, rowsOf("ab", "bc", "abc", "ca", "aa", "bca"), api.Special{Name: "end", ID: 262}),
-		"ranks, long first": byRank(t, rowsOf("abca", "abc", "bca", "ca", "bc", "ab")),
-		"ranks, mixed":      byRank(t, mixed(some, rowsOf("ab", "bc", "abc", "ca", "aa", "bca"), 300)),
-		"pairs":             byPairs(t, tablesOf("a+b", "b+c", "ab+c", "c+a", "a+a"), api.Special{Name: "end", ID: 300}),
-		"pairs, long first": byPairs(t, tablesOf("aba+b", "ab+a", "ab+c", "a+b", "b+c", "c+a")),
-		"pairs of one out":  byPairs(t, tablesOf("a+bc", "ab+c", "b+c", "a+b", "a+a", "aa+a", "a+aa")),
+		"ranks":             sample.ByRank(sample.Rows("ab", "bc", "abc", "ca", "aa", "bca"), api.Special{Name: "end", ID: 262}),
+		"ranks, long first": sample.ByRank(sample.Rows("abca", "abc", "bca", "ca", "bc", "ab")),
+		"ranks, mixed":      sample.ByRank(mixed(some, sample.Rows("ab", "bc", "abc", "ca", "aa", "bca"), 300)),
+		"pairs":             sample.ByPairs(sample.Tables("a+b", "b+c", "ab+c", "c+a", "a+a"), api.Special{Name: "end", ID: 300}),
+		"pairs, long first": sample.ByPairs(sample.Tables("aba+b", "ab+a", "ab+c", "a+b", "b+c", "c+a")),
+		"pairs of one out":  sample.ByPairs(sample.Tables("a+bc", "ab+c", "b+c", "a+b", "a+a", "aa+a", "a+aa")),
 		"orders far apart":  far,
-		"no merges":         byRank(t, rowsOf()),
+		"no merges":         sample.ByRank(sample.Rows()),
 	}
 }
 
@@ -319,7 +271,7 @@ func TestAsSaid(t *testing.T) {
 		{[]string{"ab+a", "a+b", "b+a"}, map[string]string{"abab": "aba b", "ababa": "aba ba", "baba": "b aba", "ababab": "aba b ab"}, ""},
 		{[]string{"a+a", "aa+aa"}, map[string]string{"aaa": "aa a", "aaaa": "aaaa", "aaaaaaa": "aaaa aa a", "baab": "b aa b"}, ""},
 	} {
-		v := byPairs(t, tablesOf(c.pairs...))
+		v := sample.ByPairs(sample.Tables(c.pairs...))
 		x := bothOf(t, v)
 		for from, to := range c.to {
 			if got, want := x.c.Encode([]byte(from)), numbers(v, to); !slices.Equal(got, want) {
@@ -335,7 +287,7 @@ func TestAsSaid(t *testing.T) {
 
 // P14.1: of several of one order the first two merge.
 func TestFirstOfOneOrder(t *testing.T) {
-	v := byPairs(t, tablesOf("b+a", "c+c", "cc+cc"))
+	v := sample.ByPairs(sample.Tables("b+a", "c+c", "cc+cc"))
 	x := bothOf(t, v)
 	for _, c := range []struct{ from, to string }{
 		{"ababa", "a ba ba"}, {"aba", "a ba"}, {"ccc", "cc c"}, {"cccccc", "cccc cc"}, {"ccccc", "cccc c"}, {"dcccd", "d cc c d"},
@@ -350,8 +302,8 @@ func TestFirstOfOneOrder(t *testing.T) {
 // P14.1: a byte's number is that of its token, wherever that stands, and no bytes have no tokens.
 func TestBytesAlone(t *testing.T) {
 	some := rand.New(rand.NewSource(142))
-	for _, rows := range [][]api.Row{rowsOf(), mixed(some, rowsOf(), 256), mixed(some, rowsOf("ab", "bc"), 4096)} {
-		v := byRank(t, rows)
+	for _, rows := range [][]api.Row{sample.Rows(), mixed(some, sample.Rows(), 256), mixed(some, sample.Rows("ab", "bc"), 4096)} {
+		v := sample.ByRank(rows)
 		c := coderOf(t, v)
 		var all []byte
 		var want []int
@@ -404,11 +356,11 @@ func TestManyVocabularies(t *testing.T) {
 	dead, live := 0, 0
 	for round := range 120 {
 		tokens := grown(some, 1+some.Intn(40), 2+some.Intn(9))
-		tables := tablesOf(pairsOf(some, tokens)...)
+		tables := sample.Tables(pairsOf(some, tokens)...)
 		kinds := map[string]api.Vocab{
-			"ranks":        byRank(t, rowsOf(tokens...)),
-			"ranks, mixed": byRank(t, mixed(some, rowsOf(tokens...), 400)),
-			"pairs":        byPairs(t, tables),
+			"ranks":        sample.ByRank(sample.Rows(tokens...)),
+			"ranks, mixed": sample.ByRank(mixed(some, sample.Rows(tokens...), 400)),
+			"pairs":        sample.ByPairs(tables),
 		}
 		for what, v := range kinds {
 			t.Run(fmt.Sprintf("%d, %s", round, what), func(t *testing.T) {
@@ -428,7 +380,7 @@ func TestManyVocabularies(t *testing.T) {
 // P14.2: the tokens of bytes have these bytes, whatever they are, and are no more of them.
 func TestBytesStay(t *testing.T) {
 	some := rand.New(rand.NewSource(145))
-	v := byRank(t, mixed(some, rowsOf("\xc3\xa4", "\x00\x00", "\xff\x00", "\x00\xff", "\xc3\xa4\x00", "ab", "\x00\x00\x00\xff"), 300))
+	v := sample.ByRank(mixed(some, sample.Rows("\xc3\xa4", "\x00\x00", "\xff\x00", "\x00\xff", "\xc3\xa4\x00", "ab", "\x00\x00\x00\xff"), 300))
 	x := bothOf(t, v)
 	for range 500 {
 		var b []byte
@@ -487,7 +439,7 @@ func TestAsLayer10(t *testing.T) {
 
 // P14.1: as many bytes as a text may have, and more.
 func TestLongTexts(t *testing.T) {
-	v := byRank(t, rowsOf("aa", "aaaa", "aaaaaaaa"))
+	v := sample.ByRank(sample.Rows("aa", "aaaa", "aaaaaaaa"))
 	c := coderOf(t, v)
 	for _, n := range []int{1023, 4096, 65535, 65536, 65537, 200003} {
 		want := slices.Repeat([]int{258}, n/8)
@@ -505,28 +457,9 @@ func TestLongTexts(t *testing.T) {
 	}
 }
 
-// full is a vocabulary with as many tokens and merges as may be: 8 bytes' powers up to 64, one's up to 23, and others of two bytes.
-func full(t *testing.T) api.Vocab {
-	t.Helper()
-	var more []string
-	for b := range 8 {
-		for n := 2; n <= 64; n++ {
-			more = append(more, strings.Repeat(string(rune('A'+b)), n))
-		}
-	}
-	for n := 2; n <= 23; n++ {
-		more = append(more, strings.Repeat("Z", n))
-	}
-	v := byRank(t, rowsOf(append(more, "xy", "yz", "zx")...), api.Special{Name: "end", ID: 4095})
-	if len(v.Tokens) != 4096 || len(v.Merges) != 16384 {
-		t.Fatal(len(v.Tokens), len(v.Merges))
-	}
-	return v
-}
-
 // P14.1 to P14.3: a vocabulary with as many tokens and merges as may be.
 func TestFullVocabulary(t *testing.T) {
-	v := full(t)
+	v := sample.Full()
 	x := bothOf(t, v)
 	for _, s := range []string{"AAAAA", strings.Repeat("A", 100) + "xyzxB", strings.Repeat("Z", 47), strings.Repeat("H", 64) + strings.Repeat("G", 65), "xyzxyzx"} {
 		x.check([]byte(s))
@@ -546,7 +479,7 @@ func TestLongestToken(t *testing.T) {
 			pairs = append(pairs, link(n))
 		}
 		for range 2 {
-			v := byPairs(t, tablesOf(pairs...))
+			v := sample.ByPairs(sample.Tables(pairs...))
 			x := bothOf(t, v)
 			if got := x.c.Encode([]byte(signs)); !slices.Equal(got, numbers(v, signs)) {
 				t.Errorf("%s: %v", what, got)
@@ -564,14 +497,14 @@ func TestDead(t *testing.T) {
 		name, dead string
 		v          api.Vocab
 	}{
-		{"none", "", byRank(t, rowsOf())},
-		{"by rank", "", byRank(t, rowsOf("ab", "abc", "bc"))},
-		{"by rank, a middle first", "abcd", byRank(t, rowsOf("bc", "ab", "cd", "abcd"))},
-		{"long ones first", "", byRank(t, rowsOf("abc", "bc", "ab", "xabc", "xa"))},
-		{"several", "abc dabc", byPairs(t, tablesOf("b+c", "a+b", "ab+c", "x+y", "d+abc"))},
-		{"a part is dead", "abc abcabc", byPairs(t, tablesOf("b+c", "a+b", "ab+c", "abc+abc"))},
-		{"another way lives", "", byPairs(t, tablesOf("b+c", "a+b", "ab+c", "a+bc"))},
-		{"with specials", "abcd", byRank(t, rowsOf("bc", "ab", "", "cd", "abcd"), api.Special{Name: "a", ID: 258}, api.Special{Name: "end", ID: 900})},
+		{"none", "", sample.ByRank(sample.Rows())},
+		{"by rank", "", sample.ByRank(sample.Rows("ab", "abc", "bc"))},
+		{"by rank, a middle first", "abcd", sample.ByRank(sample.Rows("bc", "ab", "cd", "abcd"))},
+		{"long ones first", "", sample.ByRank(sample.Rows("abc", "bc", "ab", "xabc", "xa"))},
+		{"several", "abc dabc", sample.ByPairs(sample.Tables("b+c", "a+b", "ab+c", "x+y", "d+abc"))},
+		{"a part is dead", "abc abcabc", sample.ByPairs(sample.Tables("b+c", "a+b", "ab+c", "abc+abc"))},
+		{"another way lives", "", sample.ByPairs(sample.Tables("b+c", "a+b", "ab+c", "a+bc"))},
+		{"with specials", "abcd", sample.ByRank(sample.Rows("bc", "ab", "", "cd", "abcd"), api.Special{Name: "a", ID: 258}, api.Special{Name: "end", ID: 900})},
 	} {
 		x := bothOf(t, c.v)
 		want := numbers(c.v, c.dead)
@@ -587,9 +520,9 @@ func TestDead(t *testing.T) {
 func TestDeadRise(t *testing.T) {
 	some := rand.New(rand.NewSource(148))
 	for range 20 {
-		tables := tablesOf("b+c", "a+b", "c+d", "ab+cd", "cd+ab", "ab+c", "b+cd")
+		tables := sample.Tables("b+c", "a+b", "c+d", "ab+cd", "cd+ab", "ab+c", "b+cd")
 		mixed(some, tables.Rows, 600)
-		v := byPairs(t, tables, api.Special{Name: "end", ID: 600})
+		v := sample.ByPairs(tables, api.Special{Name: "end", ID: 600})
 		want := numbers(v, "abcd abc bcd")
 		slices.Sort(want)
 		x := bothOf(t, v)
@@ -603,9 +536,9 @@ func TestDeadRise(t *testing.T) {
 // P14.1: there is a coder of each vocabulary that may be, which stays as it is.
 func TestNew(t *testing.T) {
 	good := several(t)
-	good["full"] = full(t)
+	good["full"] = sample.Full()
 	for what, v := range good {
-		old := clone(v)
+		old := sample.Clone(v)
 		if c, err := encode.New(v); c == nil || err != api.OK {
 			t.Errorf("%s: %v, %d", what, c, err)
 		}
@@ -617,39 +550,12 @@ func TestNew(t *testing.T) {
 
 // P14.1: there is none of a vocabulary that may not be.
 func TestNewWrong(t *testing.T) {
-	good := byPairs(t, tablesOf("a+b", "ab+c", "b+c"), api.Special{Name: "bos", ID: 300}, api.Special{Name: "end", ID: 301})
-	changes := map[string]func(v *api.Vocab){
-		"none":              func(v *api.Vocab) { *v = api.Vocab{} },
-		"no tokens":         func(v *api.Vocab) { v.Tokens = nil },
-		"a byte lacks":      func(v *api.Vocab) { v.Tokens[120] = "" },
-		"4097 tokens":       func(v *api.Vocab) { v.Tokens = append(v.Tokens, make([]string, 4097-len(v.Tokens))...) },
-		"a long token":      func(v *api.Vocab) { v.Tokens[299] = strings.Repeat("a", 65) },
-		"a token twice":     func(v *api.Vocab) { v.Tokens[299] = "x" },
-		"a token unmerged":  func(v *api.Vocab) { v.Tokens[299] = "xy" },
-		"no merges":         func(v *api.Vocab) { v.Merges = nil },
-		"parts twice":       func(v *api.Vocab) { m := v.Merges[0]; m.Order = 9; v.Merges = append(v.Merges, m) },
-		"falling orders":    func(v *api.Vocab) { v.Merges[0].Order = 2 },
-		"one order":         func(v *api.Vocab) { v.Merges[1].Order = 0 },
-		"an order below":    func(v *api.Vocab) { v.Merges[0].Order = -1 },
-		"an order above":    func(v *api.Vocab) { v.Merges[2].Order = 1<<20 + 1 },
-		"a wrong out":       func(v *api.Vocab) { v.Merges[0].Out = 257 },
-		"a left below":      func(v *api.Vocab) { v.Merges[0].Left = -1 },
-		"a special merges":  func(v *api.Vocab) { v.Merges[0].Right = 300 },
-		"many merges":       func(v *api.Vocab) { v.Merges = make([]api.Merge, 16385) },
-		"falling names":     func(v *api.Vocab) { slices.Reverse(v.Specials) },
-		"a wrong name":      func(v *api.Vocab) { v.Specials[0].Name = "B" },
-		"an ID of a token":  func(v *api.Vocab) { v.Specials[0].ID = 97 },
-		"an ID behind all":  func(v *api.Vocab) { v.Specials[1].ID = 302 },
-		"too many specials": func(v *api.Vocab) { v.Specials = make([]api.Special, 17) },
-	}
-	for what, change := range changes {
-		v := clone(good)
-		change(&v)
+	for what, v := range sample.Wrong() {
 		if c, err := encode.New(v); c != nil || err != api.ErrForm {
 			t.Errorf("%s: %v, %d; want nil, %d", what, c, err, api.ErrForm)
 		}
 	}
-	if c, err := encode.New(good); c == nil || err != api.OK {
+	if c, err := encode.New(sample.Good()); c == nil || err != api.OK {
 		t.Error("unchanged:", err)
 	}
 }
@@ -672,7 +578,7 @@ func TestNil(t *testing.T) {
 
 // P14.1: a coder keeps nothing of the vocabulary that was handed in.
 func TestVocabularyApart(t *testing.T) {
-	v := byPairs(t, tablesOf("b+c", "a+b", "c+d", "ab+cd"))
+	v := sample.ByPairs(sample.Tables("b+c", "a+b", "c+d", "ab+cd"))
 	x := bothOf(t, v)
 	for n := range v.Merges {
 		v.Merges[n] = api.Merge{Left: 'x', Right: 'y', Out: 5, Order: 1}
@@ -688,7 +594,7 @@ func TestVocabularyApart(t *testing.T) {
 
 // P14.1: what is answered is new memory, and what is handed in stays, behind its end, too.
 func TestAnswersApart(t *testing.T) {
-	v := byPairs(t, tablesOf("b+c", "a+b", "c+d", "ab+cd"))
+	v := sample.ByPairs(sample.Tables("b+c", "a+b", "c+d", "ab+cd"))
 	x := bothOf(t, v)
 	all := []byte("abcdabxcd and so on")
 	b := all[:9]

@@ -10,52 +10,9 @@ import (
 
 	"footbridge/api"
 	"footbridge/pair"
+	"footbridge/sample"
 	"footbridge/vocab"
 )
-
-// rowsOf are the 256 bytes, and then these.
-func rowsOf(more ...string) []api.Row {
-	var l []api.Row
-	for b := range 256 {
-		l = append(l, api.Row{Token: string([]byte{byte(b)}), Rank: b})
-	}
-	for n, s := range more {
-		l = append(l, api.Row{Token: s, Rank: 256 + n})
-	}
-	return l
-}
-
-// tablesOf are the 256 bytes, a token for each two that are told as "a+b", if they make a new one, and their pairs.
-func tablesOf(both ...string) api.Tables {
-	var more []string
-	var pairs []api.Pair
-	for _, s := range both {
-		left, right, _ := strings.Cut(s, "+")
-		pairs = append(pairs, api.Pair{Left: left, Right: right})
-		if !slices.Contains(more, left+right) {
-			more = append(more, left+right)
-		}
-	}
-	return api.Tables{Rows: rowsOf(more...), Pairs: pairs}
-}
-
-func byRank(t *testing.T, rows []api.Row, specials ...api.Special) api.Vocab {
-	t.Helper()
-	v, err := vocab.FromRows(rows, specials)
-	if err != api.OK {
-		t.Fatal("FromRows:", err)
-	}
-	return v
-}
-
-func byPairs(t *testing.T, x api.Tables, specials ...api.Special) api.Vocab {
-	t.Helper()
-	v, err := vocab.FromTables(x, specials)
-	if err != api.OK {
-		t.Fatal("FromTables:", err)
-	}
-	return v
-}
 
 func tableOf(t *testing.T, v api.Vocab) *pair.Table {
 	t.Helper()
@@ -64,10 +21,6 @@ func tableOf(t *testing.T, v api.Vocab) *pair.Table {
 		t.Fatal("New:", err)
 	}
 	return p
-}
-
-func clone(v api.Vocab) api.Vocab {
-	return api.Vocab{Tokens: slices.Clone(v.Tokens), Merges: slices.Clone(v.Merges), Specials: slices.Clone(v.Specials)}
 }
 
 // numbers are those of tokens that are told with blanks between.
@@ -189,30 +142,30 @@ func checkAllRows(t *testing.T, v api.Vocab, some []int, most int) {
 func several(t *testing.T) map[string]api.Vocab {
 	t.Helper()
 	some := rand.New(rand.NewSource(31))
-	mixed := rowsOf("ab", "bc", "abc", "ca", "aa", "bca")
+	mixed := sample.Rows("ab", "bc", "abc", "ca", "aa", "bca")
 	ranks := some.Perm(300)
 	for n := range mixed {
 		mixed[n].Rank = ranks[n]
 	}
-	far := byPairs(t, tablesOf("b+c", "a+b", "ab+c", "a+a"))
+	far := sample.ByPairs(sample.Tables("b+c", "a+b", "ab+c", "a+a"))
 	for n, order := range []int{0, 1, 1<<20 - 1, 1 << 20} {
 		far.Merges[n].Order = order
 	}
 	return map[string]api.Vocab{
-		"ranks":             byRank(t, rowsOf("ab", "bc", "abc", "ca", "aa", "bca"), api.Special{Name: "end", ID: 262}),
-		"ranks, long first": byRank(t, rowsOf("abca", "abc", "bca", "ca", "bc", "ab")),
-		"ranks, mixed":      byRank(t, mixed),
-		"pairs":             byPairs(t, tablesOf("a+b", "b+c", "ab+c", "c+a", "a+a"), api.Special{Name: "end", ID: 300}),
-		"pairs, long first": byPairs(t, tablesOf("aba+b", "ab+a", "ab+c", "a+b", "b+c", "c+a")),
-		"pairs of one out":  byPairs(t, tablesOf("a+bc", "ab+c", "b+c", "a+b", "a+a", "aa+a", "a+aa")),
+		"ranks":             sample.ByRank(sample.Rows("ab", "bc", "abc", "ca", "aa", "bca"), api.Special{Name: "end", ID: 262}),
+		"ranks, long first": sample.ByRank(sample.Rows("abca", "abc", "bca", "ca", "bc", "ab")),
+		"ranks, mixed":      sample.ByRank(mixed),
+		"pairs":             sample.ByPairs(sample.Tables("a+b", "b+c", "ab+c", "c+a", "a+a"), api.Special{Name: "end", ID: 300}),
+		"pairs, long first": sample.ByPairs(sample.Tables("aba+b", "ab+a", "ab+c", "a+b", "b+c", "c+a")),
+		"pairs of one out":  sample.ByPairs(sample.Tables("a+bc", "ab+c", "b+c", "a+b", "a+a", "aa+a", "a+aa")),
 		"orders far apart":  far,
-		"no merges":         byRank(t, rowsOf()),
+		"no merges":         sample.ByRank(sample.Rows()),
 	}
 }
 
 // P10.1 and P10.2: the chapter's examples, and others like them.
 func TestAsSaid(t *testing.T) {
-	v := byPairs(t, tablesOf("a+b", "b+c", "c+c", "cc+c", "ab+ab"))
+	v := sample.ByPairs(sample.Tables("a+b", "b+c", "c+c", "cc+c", "ab+ab"))
 	p := tableOf(t, v)
 	for from, to := range map[string]string{
 		"": "", "a": "a", "ab": "ab", "a b c": "ab c", "b c b": "bc b", "b a": "b a", "a b": "ab", "b b c": "b bc", "a c b": "a c b",
@@ -239,7 +192,7 @@ func TestAsSaid(t *testing.T) {
 
 // P10.1: of several of the least order the first ones merge, whatever their numbers are: by Left the others would be less.
 func TestFirstOfOneOrder(t *testing.T) {
-	v := byRank(t, rowsOf("ab", "bc", "abc"))
+	v := sample.ByRank(sample.Rows("ab", "bc", "abc"))
 	p := tableOf(t, v)
 	for _, c := range []struct {
 		row string
@@ -262,7 +215,7 @@ func TestFirstOfOneOrder(t *testing.T) {
 
 // P10.1: a merge of a lower order, which another one makes possible, comes ahead of others of that one's order.
 func TestLowerOrderBehindHigher(t *testing.T) {
-	v := byPairs(t, tablesOf("ab+a", "a+b", "b+a"))
+	v := sample.ByPairs(sample.Tables("ab+a", "a+b", "b+a"))
 	p := tableOf(t, v)
 	for from, to := range map[string]string{"a b a b": "aba b", "a b a b a b": "aba b ab", "a b a b a": "aba ba", "b a b a": "b aba", "a b b a b a": "ab b aba"} {
 		if got, want := p.Run(numbers(v, from)), numbers(v, to); !slices.Equal(got, want) {
@@ -300,7 +253,7 @@ func TestFind(t *testing.T) {
 
 // P10.1: numbers that no token has, or only a special, merge with nothing, even if they make up a merge's when laid together.
 func TestNumbersOfNone(t *testing.T) {
-	v := byRank(t, rowsOf("ab", "bc", "abc", ""), api.Special{Name: "end", ID: 300})
+	v := sample.ByRank(sample.Rows("ab", "bc", "abc", ""), api.Special{Name: "end", ID: 300})
 	p := tableOf(t, v)
 	wrong := []int{-1, -97, 259, 260, 300, 301, 4095, 4096, 97 + 256, 97 + 4096, 98 - 4096, 97 + 1<<16, 97 + 1<<20, 97 + 1<<32, 98 + 1<<32, 98 - 1<<32, 97*4096 + 98, 97<<32 + 98, math.MaxInt, math.MinInt, math.MaxInt32, math.MinInt32}
 	for _, x := range wrong {
@@ -368,7 +321,7 @@ func TestManyRows(t *testing.T) {
 // P10.2: the end of bytes tells these bytes, whatever they are, in no more tokens, and can't be merged further.
 func TestBytesStay(t *testing.T) {
 	some := rand.New(rand.NewSource(33))
-	v := byRank(t, rowsOf("\xc3\xa4", "\x00\x00", "\xff\x00", "\x00\xff", "\xc3\xa4\x00", "ab", "\x00\x00\x00\xff"))
+	v := sample.ByRank(sample.Rows("\xc3\xa4", "\x00\x00", "\xff\x00", "\x00\xff", "\xc3\xa4\x00", "ab", "\x00\x00\x00\xff"))
 	p := tableOf(t, v)
 	for range 500 {
 		var bytes []byte
@@ -393,7 +346,7 @@ func TestBytesStay(t *testing.T) {
 
 // P10.1: each step is one merge, and the last of them is the end.
 func TestStepsLeadToTheEnd(t *testing.T) {
-	v := byRank(t, rowsOf("aa", "aaaa", "aaa", "ab", "aab"))
+	v := sample.ByRank(sample.Rows("aa", "aaaa", "aaa", "ab", "aab"))
 	p := tableOf(t, v)
 	row := slices.Repeat(numbers(v, "a a a a b a a"), 9)
 	end, steps := p.Run(row), 0
@@ -411,7 +364,7 @@ func TestStepsLeadToTheEnd(t *testing.T) {
 
 // P10.1: long rows have an end, too.
 func TestLongRows(t *testing.T) {
-	v := byRank(t, rowsOf("aa", "aaaa", "aaaaaaaa"))
+	v := sample.ByRank(sample.Rows("aa", "aaaa", "aaaaaaaa"))
 	p := tableOf(t, v)
 	for _, n := range []int{1023, 1024, 4096, 4097} {
 		want := slices.Repeat([]int{258}, n/8)
@@ -434,28 +387,9 @@ func TestLongRows(t *testing.T) {
 	}
 }
 
-// full is a vocabulary with as many tokens and merges as may be: 8 bytes' powers up to 64, one's up to 23, and others of two bytes.
-func full(t *testing.T) api.Vocab {
-	t.Helper()
-	var more []string
-	for b := range 8 {
-		for n := 2; n <= 64; n++ {
-			more = append(more, strings.Repeat(string(rune('A'+b)), n))
-		}
-	}
-	for n := 2; n <= 23; n++ {
-		more = append(more, strings.Repeat("Z", n))
-	}
-	v := byRank(t, rowsOf(append(more, "xy", "yz", "zx")...), api.Special{Name: "end", ID: 4095})
-	if len(v.Tokens) != 4096 || len(v.Merges) != 16384 {
-		t.Fatal(len(v.Tokens), len(v.Merges))
-	}
-	return v
-}
-
 // P10.1: a table of as many merges as a vocabulary may have.
 func TestMostMerges(t *testing.T) {
-	v := full(t)
+	v := sample.Full()
 	p := tableOf(t, v)
 	for _, want := range v.Merges {
 		if m, ok := p.Find(want.Left, want.Right); !ok || m != want {
@@ -469,9 +403,9 @@ func TestMostMerges(t *testing.T) {
 // P10.1: there is a table of each vocabulary that may be, at the edges of its limits, too.
 func TestNew(t *testing.T) {
 	good := several(t)
-	good["full"] = full(t)
+	good["full"] = sample.Full()
 	for what, v := range good {
-		old := clone(v)
+		old := sample.Clone(v)
 		if p, err := pair.New(v); p == nil || err != api.OK {
 			t.Errorf("%s: %v, %d", what, p, err)
 		}
@@ -483,47 +417,12 @@ func TestNew(t *testing.T) {
 
 // P10.1: there is none of a vocabulary that may not be.
 func TestNewWrong(t *testing.T) {
-	good := byPairs(t, tablesOf("a+b", "ab+c", "b+c"), api.Special{Name: "bos", ID: 300}, api.Special{Name: "end", ID: 301})
-	changes := map[string]func(v *api.Vocab){
-		"none":              func(v *api.Vocab) { *v = api.Vocab{} },
-		"no tokens":         func(v *api.Vocab) { v.Tokens = nil },
-		"a byte lacks":      func(v *api.Vocab) { v.Tokens[120] = "" },
-		"4097 tokens":       func(v *api.Vocab) { v.Tokens = append(v.Tokens, make([]string, 4097-len(v.Tokens))...) },
-		"a long token":      func(v *api.Vocab) { v.Tokens[299] = strings.Repeat("a", 65) },
-		"a token twice":     func(v *api.Vocab) { v.Tokens[299] = "x" },
-		"a token unmerged":  func(v *api.Vocab) { v.Tokens[299] = "xy" },
-		"a merge lacks":     func(v *api.Vocab) { v.Merges = v.Merges[1:] },
-		"no merges":         func(v *api.Vocab) { v.Merges = nil },
-		"a merge twice":     func(v *api.Vocab) { v.Merges = append(v.Merges, v.Merges[2]) },
-		"parts twice":       func(v *api.Vocab) { m := v.Merges[0]; m.Order = 9; v.Merges = append(v.Merges, m) },
-		"falling orders":    func(v *api.Vocab) { v.Merges[0].Order = 2 },
-		"one order":         func(v *api.Vocab) { v.Merges[1].Order = 0 },
-		"an order below":    func(v *api.Vocab) { v.Merges[0].Order = -1 },
-		"an order above":    func(v *api.Vocab) { v.Merges[2].Order = 1<<20 + 1 },
-		"a wrong left":      func(v *api.Vocab) { v.Merges[0].Left = 'b' },
-		"a wrong right":     func(v *api.Vocab) { v.Merges[0].Right = 'a' },
-		"a wrong out":       func(v *api.Vocab) { v.Merges[0].Out = 257 },
-		"a huge out":        func(v *api.Vocab) { v.Merges[0].Out = math.MaxInt },
-		"a left below":      func(v *api.Vocab) { v.Merges[0].Left = math.MinInt },
-		"a special merges":  func(v *api.Vocab) { v.Merges[0].Right = 300 },
-		"many merges":       func(v *api.Vocab) { v.Merges = make([]api.Merge, 16385) },
-		"falling names":     func(v *api.Vocab) { slices.Reverse(v.Specials) },
-		"a wrong name":      func(v *api.Vocab) { v.Specials[0].Name = "B" },
-		"no name":           func(v *api.Vocab) { v.Specials[0].Name = "" },
-		"an ID of a token":  func(v *api.Vocab) { v.Specials[0].ID = 97 },
-		"an ID twice":       func(v *api.Vocab) { v.Specials[0].ID = 301 },
-		"an ID behind all":  func(v *api.Vocab) { v.Specials[1].ID = 302 },
-		"an ID below":       func(v *api.Vocab) { v.Specials[0].ID = -1 },
-		"too many specials": func(v *api.Vocab) { v.Specials = make([]api.Special, 17) },
-	}
-	for what, change := range changes {
-		v := clone(good)
-		change(&v)
+	for what, v := range sample.Wrong() {
 		if p, err := pair.New(v); p != nil || err != api.ErrForm {
 			t.Errorf("%s: %v, %d; want nil, %d", what, p, err, api.ErrForm)
 		}
 	}
-	if p, err := pair.New(good); p == nil || err != api.OK {
+	if p, err := pair.New(sample.Good()); p == nil || err != api.OK {
 		t.Error("unchanged:", err)
 	}
 }
@@ -558,7 +457,7 @@ func TestNil(t *testing.T) {
 
 // P10.1: rows of none and of one number have no step.
 func TestShortest(t *testing.T) {
-	v := byRank(t, rowsOf("ab"))
+	v := sample.ByRank(sample.Rows("ab"))
 	p := tableOf(t, v)
 	for _, row := range [][]int{nil, {}, {'a'}, {256}, {-1}, {math.MaxInt}} {
 		if _, _, ok := p.Best(row); ok {
@@ -578,9 +477,9 @@ func TestShortest(t *testing.T) {
 
 // P10.1: a table keeps nothing of the vocabulary that was handed in.
 func TestVocabularyApart(t *testing.T) {
-	v := byRank(t, rowsOf("ab", "bc", "abc"))
+	v := sample.ByRank(sample.Rows("ab", "bc", "abc"))
 	p := tableOf(t, v)
-	old := clone(v)
+	old := sample.Clone(v)
 	for n := range v.Merges {
 		v.Merges[n] = api.Merge{Left: 'x', Right: 'y', Out: 5, Order: 1}
 	}
@@ -600,7 +499,7 @@ func TestVocabularyApart(t *testing.T) {
 
 // P10.1: rows that are handed in stay, behind their ends, too, and share nothing with those that are answered.
 func TestRowsApart(t *testing.T) {
-	v := byRank(t, rowsOf("ab", "bc", "abc"))
+	v := sample.ByRank(sample.Rows("ab", "bc", "abc"))
 	p := tableOf(t, v)
 	for _, tokens := range []string{"a b c b c a", "c b a", "a", "a b", "c c a b", "b c z z z"} {
 		all := append(numbers(v, tokens), 'a', 'b', 'c')

@@ -9,6 +9,7 @@ import (
 
 	"footbridge/api"
 	"footbridge/class"
+	"footbridge/sample"
 	"footbridge/scan"
 	"footbridge/split"
 	"footbridge/utf"
@@ -19,16 +20,8 @@ var kinds = []int{api.None, api.Blank, api.Plain, api.Wide}
 // marks are symbols that are no bytes: the nearest ones, the farthest ones, and such as would be a byte, if just their lower bits were taken.
 var marks = []int{-1, 256, 257, 300, 256 + 'a', 'a' - 256, 1<<32 + 'a', 1<<16 + ' ', -256, -255, math.MinInt, math.MinInt + '\'', math.MaxInt}
 
-// oddTable has apostrophes and some letters of endings as spaces, blanks as letters, and lines.
-func oddTable() []api.Range {
-	return []api.Range{
-		{Lo: '\n', Hi: '\n', Class: api.Line}, {Lo: ' ', Hi: ' ', Class: api.Letter}, {Lo: '\'', Hi: '\'', Class: api.Space},
-		{Lo: '0', Hi: '9', Class: api.Number}, {Lo: 'a', Hi: 'r', Class: api.Letter}, {Lo: 's', Hi: 't', Class: api.Space},
-	}
-}
-
 func tables() [][]api.Range {
-	return [][]api.Range{class.Usual(), oddTable(), nil}
+	return [][]api.Range{class.Usual(), sample.Odd(), nil}
 }
 
 // text is a row of symbols, told by texts and marks.
@@ -201,7 +194,7 @@ func TestDecided(t *testing.T) {
 
 // P13.1: a piece that Next says is decided isn't, if one ahead of it isn't.
 func TestNoneBehindOpen(t *testing.T) {
-	table := oddTable()
+	table := sample.Odd()
 	row := text("\n's")
 	if n, decided := scan.Next(api.Wide, table, []byte("\n's"), false); n != 1 || decided {
 		t.Fatalf("Next(Wide, odd, \\n's, false) = %d, %v", n, decided)

@@ -11,27 +11,15 @@ import (
 	"footbridge/api"
 	"footbridge/class"
 	"footbridge/pair"
+	"footbridge/sample"
 	"footbridge/split"
 	"footbridge/text"
-	"footbridge/vocab"
 )
 
 var kinds = []int{api.None, api.Blank, api.Plain, api.Wide}
 
 // far are symbols and tokens that none has, of which some would be one, if just their lower bits were taken.
 var far = []int{-1, -2, 'a' - 256, -256, 1<<16 + 'a', 1<<32 + 'a', 1<<32 + 256, math.MinInt, math.MinInt + 'a', math.MinInt + 256, math.MaxInt}
-
-// rowsOf are the 256 bytes, and then these.
-func rowsOf(more ...string) []api.Row {
-	var l []api.Row
-	for b := range 256 {
-		l = append(l, api.Row{Token: string([]byte{byte(b)}), Rank: b})
-	}
-	for n, s := range more {
-		l = append(l, api.Row{Token: s, Rank: 256 + n})
-	}
-	return l
-}
 
 // mixed are the same rows, with their ranks dealt out anew among more than there are rows, and 0 left out.
 func mixed(some *rand.Rand, rows []api.Row, among int) []api.Row {
@@ -40,48 +28,6 @@ func mixed(some *rand.Rand, rows []api.Row, among int) []api.Row {
 		rows[n].Rank = 1 + ranks[n]
 	}
 	return rows
-}
-
-// tablesOf are the 256 bytes, a token for each two that are told as "a+b", and their pairs.
-func tablesOf(both ...string) api.Tables {
-	var more []string
-	var pairs []api.Pair
-	for _, s := range both {
-		left, right, _ := strings.Cut(s, "+")
-		pairs = append(pairs, api.Pair{Left: left, Right: right})
-		more = append(more, left+right)
-	}
-	return api.Tables{Rows: rowsOf(more...), Pairs: pairs}
-}
-
-func byRank(t *testing.T, rows []api.Row, specials ...api.Special) api.Vocab {
-	t.Helper()
-	v, err := vocab.FromRows(rows, specials)
-	if err != api.OK {
-		t.Fatal("FromRows:", err)
-	}
-	return v
-}
-
-func byPairs(t *testing.T, x api.Tables, specials ...api.Special) api.Vocab {
-	t.Helper()
-	v, err := vocab.FromTables(x, specials)
-	if err != api.OK {
-		t.Fatal("FromTables:", err)
-	}
-	return v
-}
-
-func clone(v api.Vocab) api.Vocab {
-	return api.Vocab{Tokens: slices.Clone(v.Tokens), Merges: slices.Clone(v.Merges), Specials: slices.Clone(v.Specials)}
-}
-
-// oddTable has apostrophes and some letters of endings as spaces, blanks as letters, and lines.
-func oddTable() []api.Range {
-	return []api.Range{
-		{Lo: '\n', Hi: '\n', Class: api.Line}, {Lo: ' ', Hi: ' ', Class: api.Letter}, {Lo: '\'', Hi: '\'', Class: api.Space},
-		{Lo: '0', Hi: '9', Class: api.Number}, {Lo: 'a', Hi: 'r', Class: api.Letter}, {Lo: 's', Hi: 't', Class: api.Space},
-	}
 }
 
 // row is a row of numbers, told by texts and numbers.
@@ -247,7 +193,7 @@ func bothOf(t *testing.T, v api.Vocab, names []string, kind int, table []api.Ran
 	if err != api.OK {
 		t.Fatal("pair.New:", err)
 	}
-	w := words{v: clone(v), names: slices.Clone(names), kind: kind, table: slices.Clone(table), merges: merges, known: map[string][]int{}}
+	w := words{v: sample.Clone(v), names: slices.Clone(names), kind: kind, table: slices.Clone(table), merges: merges, known: map[string][]int{}}
 	return &both{T: t, c: c, w: w, room: room}
 }
 
@@ -406,7 +352,7 @@ var merged = []string{" a", "ab", " ab", "'r", "'re", "th", "the", " t", " the",
 func several(t *testing.T) map[string]api.Vocab {
 	t.Helper()
 	by := rand.New(rand.NewSource(161))
-	rows := mixed(by, rowsOf(merged...), 280)
+	rows := mixed(by, sample.Rows(merged...), 280)
 	var free []int
 	for n := range 300 {
 		if !slices.ContainsFunc(rows, func(r api.Row) bool { return r.Rank == n }) {
@@ -414,11 +360,11 @@ func several(t *testing.T) map[string]api.Vocab {
 		}
 	}
 	return map[string]api.Vocab{
-		"ranks":        byRank(t, rowsOf(merged...), api.Special{Name: "end", ID: 300}, api.Special{Name: "fim", ID: 290}, api.Special{Name: "odd", ID: 301}),
-		"ranks, mixed": byRank(t, rows, api.Special{Name: "end", ID: free[3]}, api.Special{Name: "fim", ID: free[0]}, api.Special{Name: "a_0", ID: free[5]}),
-		"pairs": byPairs(t, tablesOf(" +a", "b+'", "a+b", " a+b", "'+r", "'r+e", "t+h", " +t", " t+h", " th+e", "\xe2+\x82", "\x82+\xac", " + "),
+		"ranks":        sample.ByRank(sample.Rows(merged...), api.Special{Name: "end", ID: 300}, api.Special{Name: "fim", ID: 290}, api.Special{Name: "odd", ID: 301}),
+		"ranks, mixed": sample.ByRank(rows, api.Special{Name: "end", ID: free[3]}, api.Special{Name: "fim", ID: free[0]}, api.Special{Name: "a_0", ID: free[5]}),
+		"pairs": sample.ByPairs(sample.Tables(" +a", "b+'", "a+b", " a+b", "'+r", "'r+e", "t+h", " +t", " t+h", " th+e", "\xe2+\x82", "\x82+\xac", " + "),
 			api.Special{Name: "fim", ID: 400}, api.Special{Name: "end", ID: 401}),
-		"no merges": byRank(t, rowsOf(), api.Special{Name: "end", ID: 257}, api.Special{Name: "fim", ID: 256}, api.Special{Name: "x", ID: 4095}),
+		"no merges": sample.ByRank(sample.Rows(), api.Special{Name: "end", ID: 257}, api.Special{Name: "fim", ID: 256}, api.Special{Name: "x", ID: 4095}),
 	}
 }
 
@@ -426,7 +372,7 @@ func names() []string { return []string{"bos", "end", "fim"} }
 
 // P16.1: the chapter's example, and others like it.
 func TestAsSaid(t *testing.T) {
-	v := byRank(t, rowsOf("ab", " ab", " a", "'r", "'re"), api.Special{Name: "end", ID: 300}, api.Special{Name: "odd", ID: 301})
+	v := sample.ByRank(sample.Rows("ab", " ab", " a", "'r", "'re"), api.Special{Name: "end", ID: 300}, api.Special{Name: "odd", ID: 301})
 	c, err := text.New(v, []string{"end"}, api.Plain, nil, 4)
 	if err != api.OK {
 		t.Fatal("New:", err)
@@ -529,7 +475,7 @@ func TestLongerTexts(t *testing.T) {
 	for name, v := range several(t) {
 		t.Run(name, func(t *testing.T) {
 			by := rand.New(rand.NewSource(162))
-			for _, table := range [][]api.Range{nil, oddTable()} {
+			for _, table := range [][]api.Range{nil, sample.Odd()} {
 				for _, kind := range kinds {
 					x := bothOf(t, v, names(), kind, table, 20)
 					for range 150 {
@@ -667,7 +613,7 @@ func TestTables(t *testing.T) {
 		none := bothOf(t, v, names(), kind, nil, 9)
 		empty := bothOf(t, v, names(), kind, []api.Range{}, 9)
 		usual := bothOf(t, v, names(), kind, class.Usual(), 9)
-		odd := bothOf(t, v, names(), kind, oddTable(), 9)
+		odd := bothOf(t, v, names(), kind, sample.Odd(), 9)
 		unlike := false
 		for range 300 {
 			l := longer(by, 12, 257)
@@ -700,7 +646,7 @@ func TestMarks(t *testing.T) {
 	for n := 1; n < api.MaxNames; n += 2 {
 		specials = append(specials, api.Special{Name: all[n], ID: 300 - n})
 	}
-	v := byRank(t, rowsOf("ab"), specials...)
+	v := sample.ByRank(sample.Rows("ab"), specials...)
 	for _, list := range [][]string{nil, {}, all, all[:1], all[1:2], all[3:9], {"_"}, {"0", "9x", "_", "a"}} {
 		x := bothOf(t, v, list, api.Plain, nil, 4)
 		for n := range 24 {
@@ -718,7 +664,7 @@ func TestDecidedStays(t *testing.T) {
 	for name, v := range several(t) {
 		t.Run(name, func(t *testing.T) {
 			by := rand.New(rand.NewSource(166))
-			for _, table := range [][]api.Range{nil, oddTable()} {
+			for _, table := range [][]api.Range{nil, sample.Odd()} {
 				for _, kind := range kinds {
 					x := bothOf(t, v, names(), kind, table, 20)
 					for range 60 {
@@ -750,28 +696,6 @@ func (x *both) stays(text []int, by *rand.Rand) {
 			x.Fatalf("kind %d: of %v the tokens %v are decided; with %v behind it they are %v, %v", x.w.kind, text, first, more, got, err)
 		}
 	}
-}
-
-// changed are vocabularies that may not be, by the chapter of them.
-func changed(v api.Vocab) map[string]api.Vocab {
-	no := map[string]api.Vocab{"none": {}}
-	change := func(name string, how func(v *api.Vocab)) {
-		c := clone(v)
-		how(&c)
-		no[name] = c
-	}
-	change("a byte less", func(v *api.Vocab) { v.Tokens['q'] = "" })
-	change("twice", func(v *api.Vocab) { v.Tokens[len(v.Tokens)-1] = "q" })
-	change("no merge of a token", func(v *api.Vocab) { v.Tokens[299] = "qq" })
-	change("a merge of another one", func(v *api.Vocab) { v.Merges[0].Out = v.Merges[1].Out })
-	change("merges fall", func(v *api.Vocab) { v.Merges[0], v.Merges[1] = v.Merges[1], v.Merges[0] })
-	change("an order too low", func(v *api.Vocab) { v.Merges[0].Order = -1 })
-	change("a name too many signs", func(v *api.Vocab) { v.Specials[0].Name = strings.Repeat("a", api.MaxName+1) })
-	change("names fall", func(v *api.Vocab) { v.Specials[0], v.Specials[1] = v.Specials[1], v.Specials[0] })
-	change("an ID of bytes", func(v *api.Vocab) { v.Specials[0].ID = 'q' })
-	change("an ID twice", func(v *api.Vocab) { v.Specials[0].ID = v.Specials[1].ID })
-	change("too many tokens", func(v *api.Vocab) { v.Tokens = append(v.Tokens, make([]string, api.MaxTokens)...) })
-	return no
 }
 
 // P16.1: of what may not be there is no coder.
@@ -816,7 +740,7 @@ func TestNew(t *testing.T) {
 			t.Errorf("New(%v) = %v, %v; want none and ErrArg", f, c, err)
 		}
 	}
-	for name, no := range changed(v) {
+	for name, no := range sample.Wrong() {
 		for _, f := range append(wrong, from{names(), api.Plain, nil, 1}) {
 			if c, err := text.New(no, f.names, f.kind, f.table, f.room); c != nil || err != api.ErrForm {
 				t.Errorf("%s: New(%v) = %v, %v; want none and ErrForm", name, f, c, err)
@@ -859,7 +783,7 @@ func TestNil(t *testing.T) {
 
 // P16.1: whoever writes into what was handed in, or answered, changes nothing.
 func TestApart(t *testing.T) {
-	v, list, table := several(t)["ranks"], names(), oddTable()
+	v, list, table := several(t)["ranks"], names(), sample.Odd()
 	x := bothOf(t, v, list, api.Plain, table, 4)
 	for n := range v.Tokens {
 		v.Tokens[n] = "?"

@@ -11,6 +11,7 @@ import (
 	"testing"
 
 	"footbridge/api"
+	"footbridge/sample"
 	"footbridge/vocab"
 )
 
@@ -187,10 +188,6 @@ func same(x, y api.Vocab) bool {
 	return slices.Equal(x.Tokens, y.Tokens) && slices.Equal(x.Merges, y.Merges) && slices.Equal(x.Specials, y.Specials)
 }
 
-func clone(v api.Vocab) api.Vocab {
-	return api.Vocab{Tokens: slices.Clone(v.Tokens), Merges: slices.Clone(v.Merges), Specials: slices.Clone(v.Specials)}
-}
-
 // show tells how much there is of a vocabulary, and some of its last parts.
 func show(v api.Vocab) string {
 	return fmt.Sprintf("%d tokens %.60q, %d merges %v, specials %v",
@@ -244,7 +241,7 @@ func checkTables(t *testing.T, x api.Tables, specials []api.Special) api.Errno {
 // checkMay holds May against the chapter's points.
 func checkMay(t *testing.T, v api.Vocab) bool {
 	t.Helper()
-	old := clone(v)
+	old := sample.Clone(v)
 	got := vocab.May(v)
 	if want := may(v); got != want {
 		t.Errorf("May(%s) = %v; want %v", show(v), got, want)
@@ -253,18 +250,6 @@ func checkMay(t *testing.T, v api.Vocab) bool {
 		t.Error("May has changed its vocabulary")
 	}
 	return got
-}
-
-// rowsOf are the 256 bytes, and then these.
-func rowsOf(more ...string) []api.Row {
-	var l []api.Row
-	for b := range 256 {
-		l = append(l, api.Row{Token: string([]byte{byte(b)}), Rank: b})
-	}
-	for n, s := range more {
-		l = append(l, api.Row{Token: s, Rank: 256 + n})
-	}
-	return l
 }
 
 // with is rows, and one more.
@@ -312,11 +297,11 @@ func pairsOf(v api.Vocab) []api.Pair {
 
 // P9.1: rows as a vocabulary, as the chapter's example and others tell.
 func TestRowsAsSaid(t *testing.T) {
-	v := made(t, rowsOf("ab"), nil)
+	v := made(t, sample.Rows("ab"), nil)
 	if len(v.Tokens) != 257 || v.Tokens[256] != "ab" || !slices.Equal(v.Merges, []api.Merge{{Left: 97, Right: 98, Out: 256, Order: 256}}) || len(v.Specials) != 0 {
 		t.Error(show(v))
 	}
-	v = made(t, with(rowsOf("aaa"), "aa", 300), []api.Special{{Name: "z", ID: 299}, {Name: "_", ID: 310}, {Name: "a0", ID: 257}, {Name: "9", ID: 298}, {Name: "a", ID: 302}})
+	v = made(t, with(sample.Rows("aaa"), "aa", 300), []api.Special{{Name: "z", ID: 299}, {Name: "_", ID: 310}, {Name: "a0", ID: 257}, {Name: "9", ID: 298}, {Name: "a", ID: 302}})
 	want := []api.Merge{{Left: 97, Right: 300, Out: 256, Order: 256}, {Left: 300, Right: 97, Out: 256, Order: 256}, {Left: 97, Right: 97, Out: 300, Order: 300}}
 	if len(v.Tokens) != 311 || v.Tokens[256] != "aaa" || v.Tokens[300] != "aa" || !slices.Equal(v.Merges, want) {
 		t.Error(show(v))
@@ -324,12 +309,12 @@ func TestRowsAsSaid(t *testing.T) {
 	if !slices.Equal(v.Specials, []api.Special{{Name: "9", ID: 298}, {Name: "_", ID: 310}, {Name: "a", ID: 302}, {Name: "a0", ID: 257}, {Name: "z", ID: 299}}) {
 		t.Error(v.Specials)
 	}
-	if v = made(t, rowsOf(), nil); len(v.Tokens) != 256 || len(v.Merges) != 0 || len(v.Specials) != 0 {
+	if v = made(t, sample.Rows(), nil); len(v.Tokens) != 256 || len(v.Merges) != 0 || len(v.Specials) != 0 {
 		t.Error(show(v))
 	}
 	for n, rows := range [][]api.Row{
-		rowsOf("ab", "abc", "bc"), rowsOf("abcd", "abc", "bcd", "ab", "cd", "bc"), rowsOf(powers(0, 64)...), rowsOf(powers('\xff', 64)...),
-		rowsOf("ä", "ää", "\xa4\xc3"), slices.Concat(rowsOf("ab")[100:], rowsOf()[:100]), with(rowsOf(), "ab", 4095), with(rowsOf("ab"), "", 400),
+		sample.Rows("ab", "abc", "bc"), sample.Rows("abcd", "abc", "bcd", "ab", "cd", "bc"), sample.Rows(powers(0, 64)...), sample.Rows(powers('\xff', 64)...),
+		sample.Rows("ä", "ää", "\xa4\xc3"), slices.Concat(sample.Rows("ab")[100:], sample.Rows()[:100]), with(sample.Rows(), "ab", 4095), with(sample.Rows("ab"), "", 400),
 	} {
 		if err := checkRows(t, rows, nil); err != api.OK {
 			t.Error(n, err)
@@ -344,7 +329,7 @@ func TestRowsAsSaid(t *testing.T) {
 func TestRowsMixed(t *testing.T) {
 	some := rand.New(rand.NewSource(9))
 	for range 60 {
-		rows := rowsOf("ab", "bc", "abc", "bcab", "abcbc", "aa", "aab", "cabc", "ca")
+		rows := sample.Rows("ab", "bc", "abc", "bcab", "abcbc", "aa", "aab", "cabc", "ca")
 		ranks := some.Perm(265 + some.Intn(40))
 		for n := range rows {
 			rows[n].Rank = ranks[n]
@@ -366,11 +351,11 @@ func TestRowsMixed(t *testing.T) {
 // P9.1: rows of which none, or a wrong one, can be made.
 func TestRowsWrong(t *testing.T) {
 	for n, rows := range [][]api.Row{
-		nil, {}, {{Token: "a", Rank: 0}}, rowsOf()[1:], rowsOf()[:255], slices.Delete(rowsOf("ab"), 120, 121),
-		rowsOf("ab", "ab"), rowsOf("a"), rowsOf("\x00"), rowsOf("abc"), rowsOf("ab", "abcd"), rowsOf("ab", "cd", "bcda"),
-		with(rowsOf(), "ab", 255), with(rowsOf(), "", 7), with(rowsOf(""), "", 256), with(rowsOf(""), "ab", 256), with(rowsOf("ab"), "", 256), with(rowsOf(), "a", 97),
-		with(rowsOf(), "ab", 4096), with(rowsOf(), "ab", -1), with(rowsOf(), "", 4096), with(rowsOf(), "", -1), with(rowsOf(), "ab", math.MaxInt), with(rowsOf(), "ab", math.MinInt), with(rowsOf(), "ab", 1<<32),
-		rowsOf(append(powers('a', 64), strings.Repeat("a", 65))...), rowsOf(strings.Repeat("a", 1<<20)), slices.Repeat(rowsOf(), 100), slices.Repeat([]api.Row{{Token: "a"}}, 100000),
+		nil, {}, {{Token: "a", Rank: 0}}, sample.Rows()[1:], sample.Rows()[:255], slices.Delete(sample.Rows("ab"), 120, 121),
+		sample.Rows("ab", "ab"), sample.Rows("a"), sample.Rows("\x00"), sample.Rows("abc"), sample.Rows("ab", "abcd"), sample.Rows("ab", "cd", "bcda"),
+		with(sample.Rows(), "ab", 255), with(sample.Rows(), "", 7), with(sample.Rows(""), "", 256), with(sample.Rows(""), "ab", 256), with(sample.Rows("ab"), "", 256), with(sample.Rows(), "a", 97),
+		with(sample.Rows(), "ab", 4096), with(sample.Rows(), "ab", -1), with(sample.Rows(), "", 4096), with(sample.Rows(), "", -1), with(sample.Rows(), "ab", math.MaxInt), with(sample.Rows(), "ab", math.MinInt), with(sample.Rows(), "ab", 1<<32),
+		sample.Rows(append(powers('a', 64), strings.Repeat("a", 65))...), sample.Rows(strings.Repeat("a", 1<<20)), slices.Repeat(sample.Rows(), 100), slices.Repeat([]api.Row{{Token: "a"}}, 100000),
 	} {
 		if v, err := vocab.FromRows(rows, nil); err != api.ErrForm || len(v.Tokens)+len(v.Merges)+len(v.Specials) != 0 {
 			t.Errorf("rows %d: %s, %d", n, show(v), err)
@@ -405,7 +390,7 @@ func specialCases() map[bool][][]api.Special {
 
 // P9.1: specials that may be, in any order, and those that may not.
 func TestSpecials(t *testing.T) {
-	rows := rowsOf("", "ab")
+	rows := sample.Rows("", "ab")
 	pairs := []api.Pair{{Left: "a", Right: "b"}}
 	for good, cases := range specialCases() {
 		want := api.ErrForm
@@ -433,12 +418,12 @@ func TestSpecialNames(t *testing.T) {
 		one := string([]byte{byte(b)})
 		good := 'a' <= b && b <= 'z' || '0' <= b && b <= '9' || b == '_'
 		for _, name := range []string{one, one + "x", "x" + one, "xx" + one + "xx", strings.Repeat("x", 23) + one} {
-			v := made(t, rowsOf(), []api.Special{{Name: "end", ID: 256}})
+			v := made(t, sample.Rows(), []api.Special{{Name: "end", ID: 256}})
 			v.Specials[0].Name = name
 			if got := checkMay(t, v); got != good {
 				t.Errorf("May with the name %q: %v", name, got)
 			}
-			if err := checkRows(t, rowsOf(), v.Specials); (err == api.OK) != good {
+			if err := checkRows(t, sample.Rows(), v.Specials); (err == api.OK) != good {
 				t.Errorf("FromRows with the name %q: %d", name, err)
 			}
 		}
@@ -447,13 +432,13 @@ func TestSpecialNames(t *testing.T) {
 
 // P9.1: tables as a vocabulary: a merge for each pair, of the pair's place.
 func TestTablesAsSaid(t *testing.T) {
-	x := api.Tables{Rows: rowsOf("ab", "abc", "bc"), Pairs: []api.Pair{{Left: "b", Right: "c"}, {Left: "a", Right: "bc"}, {Left: "a", Right: "b"}, {Left: "ab", Right: "c"}}}
+	x := api.Tables{Rows: sample.Rows("ab", "abc", "bc"), Pairs: []api.Pair{{Left: "b", Right: "c"}, {Left: "a", Right: "bc"}, {Left: "a", Right: "b"}, {Left: "ab", Right: "c"}}}
 	v, err := vocab.FromTables(x, []api.Special{{Name: "end", ID: 270}, {Name: "bos", ID: 260}})
 	want := []api.Merge{{Left: 98, Right: 99, Out: 258, Order: 0}, {Left: 97, Right: 258, Out: 257, Order: 1}, {Left: 97, Right: 98, Out: 256, Order: 2}, {Left: 256, Right: 99, Out: 257, Order: 3}}
 	if err != api.OK || len(v.Tokens) != 271 || !slices.Equal(v.Merges, want) || !slices.Equal(v.Specials, []api.Special{{Name: "bos", ID: 260}, {Name: "end", ID: 270}}) {
 		t.Error(show(v), err)
 	}
-	if v, err = vocab.FromTables(api.Tables{Rows: rowsOf()}, nil); err != api.OK || len(v.Tokens) != 256 || len(v.Merges) != 0 {
+	if v, err = vocab.FromTables(api.Tables{Rows: sample.Rows()}, nil); err != api.OK || len(v.Tokens) != 256 || len(v.Merges) != 0 {
 		t.Error(show(v), err)
 	}
 	if v, err = vocab.FromTables(api.Tables{}, nil); err != api.ErrForm || len(v.Tokens) != 0 {
@@ -464,7 +449,7 @@ func TestTablesAsSaid(t *testing.T) {
 
 // P9.1: pairs whose parts are no tokens, or not together, that are there twice, or too few, wherever they stand.
 func TestTablesWrong(t *testing.T) {
-	x := api.Tables{Rows: rowsOf("ab", "abc", "bc", ""), Pairs: []api.Pair{{Left: "b", Right: "c"}, {Left: "a", Right: "bc"}, {Left: "a", Right: "b"}}}
+	x := api.Tables{Rows: sample.Rows("ab", "abc", "bc", ""), Pairs: []api.Pair{{Left: "b", Right: "c"}, {Left: "a", Right: "bc"}, {Left: "a", Right: "b"}}}
 	for _, pair := range []api.Pair{
 		{}, {Left: "", Right: "a"}, {Left: "a", Right: ""}, {Left: "", Right: "ab"}, {Left: "c", Right: "a"}, {Left: "zz", Right: "a"}, {Left: "a", Right: "zz"}, {Left: "ab", Right: "cd"}, {Left: "abc", Right: "a"},
 		{Left: "a", Right: "b"}, {Left: "b", Right: "c"}, {Left: "a", Right: "bc"}, {Left: strings.Repeat("a", 1<<20), Right: "a"}, {Left: "a", Right: strings.Repeat("a", 1<<20)},
@@ -490,13 +475,13 @@ func TestTablesWrong(t *testing.T) {
 
 // P9.1: 16384 merges may be, one more may not.
 func TestManyMerges(t *testing.T) {
-	rows := rowsOf(manyCuts()...)
+	rows := sample.Rows(manyCuts()...)
 	v := made(t, rows, nil)
 	if len(v.Merges) != 16384 {
 		t.Fatal(len(v.Merges))
 	}
 	checkRows(t, rows, nil)
-	more := rowsOf(append(manyCuts(), "zy")...)
+	more := sample.Rows(append(manyCuts(), "zy")...)
 	if err := checkRows(t, more, nil); err != api.ErrForm {
 		t.Error("FromRows of 16385 merges:", err)
 	}
@@ -526,7 +511,7 @@ func TestManyMerges(t *testing.T) {
 
 // P9.1: 4096 tokens may be, and a token at each place; more may not.
 func TestManyTokens(t *testing.T) {
-	v := made(t, rowsOf(), []api.Special{{Name: "end", ID: 4095}})
+	v := made(t, sample.Rows(), []api.Special{{Name: "end", ID: 4095}})
 	if len(v.Tokens) != 4096 || !checkMay(t, v) {
 		t.Error(len(v.Tokens))
 	}
@@ -538,17 +523,17 @@ func TestManyTokens(t *testing.T) {
 	for n := range 3840 {
 		all = append(all, string([]byte{byte(n / 60), byte(n % 60)}))
 	}
-	v = made(t, rowsOf(all...), nil)
+	v = made(t, sample.Rows(all...), nil)
 	if len(v.Tokens) != 4096 || len(v.Merges) != 3840 {
 		t.Error(show(v))
 	}
-	checkRows(t, rowsOf(all...), nil)
-	if err := checkRows(t, rowsOf(append(all, "zz")...), nil); err != api.ErrForm {
+	checkRows(t, sample.Rows(all...), nil)
+	if err := checkRows(t, sample.Rows(append(all, "zz")...), nil); err != api.ErrForm {
 		t.Error("FromRows of 4097 rows:", err)
 	}
 	// No number is left for a special, though the rows may be.
 	for _, id := range []int{0, 97, 255, 256, 2000, 4094, 4095, 4096} {
-		if _, err := vocab.FromRows(rowsOf(all...), []api.Special{{Name: "end", ID: id}}); err != api.ErrForm {
+		if _, err := vocab.FromRows(sample.Rows(all...), []api.Special{{Name: "end", ID: id}}); err != api.ErrForm {
 			t.Error(id, err)
 		}
 	}
@@ -560,7 +545,7 @@ func TestManyTokens(t *testing.T) {
 // P9.1: tokens of 64 bytes may be, those of 65 may not.
 func TestLongTokens(t *testing.T) {
 	l := []string{"aa", "aaaa", strings.Repeat("a", 8), strings.Repeat("a", 16), strings.Repeat("a", 32), strings.Repeat("a", 64)}
-	v := made(t, rowsOf(l...), nil)
+	v := made(t, sample.Rows(l...), nil)
 	if len(v.Merges) != 6 || !checkMay(t, v) {
 		t.Error(show(v))
 	}
@@ -570,10 +555,10 @@ func TestLongTokens(t *testing.T) {
 	if checkMay(t, v) {
 		t.Error("May with 65 bytes")
 	}
-	if err := checkRows(t, rowsOf(append(l, long)...), nil); err != api.ErrForm {
+	if err := checkRows(t, sample.Rows(append(l, long)...), nil); err != api.ErrForm {
 		t.Error("FromRows with 65 bytes:", err)
 	}
-	if err := checkTables(t, api.Tables{Rows: rowsOf(append(l, long)...), Pairs: pairsOf(v)}, nil); err != api.ErrForm {
+	if err := checkTables(t, api.Tables{Rows: sample.Rows(append(l, long)...), Pairs: pairsOf(v)}, nil); err != api.ErrForm {
 		t.Error("FromTables with 65 bytes:", err)
 	}
 	// A long token that nothing merges to is wrong twice.
@@ -583,9 +568,9 @@ func TestLongTokens(t *testing.T) {
 
 // P9.1: tokens that aren't all bytes, or are the same.
 func TestMayTokens(t *testing.T) {
-	good := made(t, rowsOf("ab", "", ""), nil)
+	good := made(t, sample.Rows("ab", "", ""), nil)
 	for n := range 256 {
-		v := clone(good)
+		v := sample.Clone(good)
 		v.Tokens[n] = ""
 		v.Merges = nil
 		v.Tokens[256] = ""
@@ -601,7 +586,7 @@ func TestMayTokens(t *testing.T) {
 			t.Errorf("May with the byte %d twice", n)
 		}
 	}
-	v := clone(good)
+	v := sample.Clone(good)
 	v.Tokens[258] = "ab"
 	if checkMay(t, v) {
 		t.Error("May with a token twice")
@@ -617,11 +602,11 @@ func TestMayTokens(t *testing.T) {
 
 // P9.1: each merge for itself: its numbers, its bytes, its order.
 func TestMayMerge(t *testing.T) {
-	good := made(t, rowsOf("ab", "abc", "bc", ""), []api.Special{{Name: "end", ID: 259}})
+	good := made(t, sample.Rows("ab", "abc", "bc", ""), []api.Special{{Name: "end", ID: 259}})
 	for at := range good.Merges {
 		for _, n := range []int{-1, 0, 97, 98, 99, 256, 257, 258, 259, 260, 4096, math.MaxInt, math.MinInt} {
 			for field := range 3 {
-				v := clone(good)
+				v := sample.Clone(good)
 				m := &v.Merges[at]
 				place := []*int{&m.Left, &m.Right, &m.Out}[field]
 				same := *place == n
@@ -634,7 +619,7 @@ func TestMayMerge(t *testing.T) {
 	}
 	// Both sides of an empty token are no merge, though their bytes fit.
 	for _, m := range []api.Merge{{Left: 259, Right: 97, Out: 97}, {Left: 97, Right: 259, Out: 97}, {Left: 259, Right: 259, Out: 259}, {Left: 98, Right: 97, Out: 256}} {
-		v := clone(good)
+		v := sample.Clone(good)
 		v.Merges = slices.Insert(v.Merges, 0, m)
 		if checkMay(t, v) {
 			t.Errorf("May with %v", m)
@@ -644,7 +629,7 @@ func TestMayMerge(t *testing.T) {
 
 // P9.1: orders rise, from 0 to 2^20; merges of one order have one Out, and rise by Left.
 func TestMayOrders(t *testing.T) {
-	v := made(t, rowsOf("ab", "abc", "bc"), nil)
+	v := made(t, sample.Rows("ab", "abc", "bc"), nil)
 	for _, c := range []struct {
 		orders [4]int
 		want   bool
@@ -653,7 +638,7 @@ func TestMayOrders(t *testing.T) {
 		{[4]int{-1, 0, 1, 2}, false}, {[4]int{0, 5, 9, 1 << 20}, true}, {[4]int{0, 5, 9, 1<<20 + 1}, false}, {[4]int{0, 1 << 20, 1 << 20, 1 << 20}, false}, {[4]int{math.MinInt, 0, 1, 2}, false}, {[4]int{0, 1, 2, math.MaxInt}, false},
 		{[4]int{1, 0, 2, 3}, false}, {[4]int{0, 2, 1, 3}, false}, {[4]int{0, 1, 3, 2}, false}, {[4]int{3, 2, 1, 0}, false}, {[4]int{0, 1 << 20, 1<<20 - 1, 1 << 20}, false},
 	} {
-		w := clone(v)
+		w := sample.Clone(v)
 		for at, order := range c.orders {
 			w.Merges[at].Order = order
 		}
@@ -662,20 +647,20 @@ func TestMayOrders(t *testing.T) {
 		}
 	}
 	// The two merges of "abc" have one order: the one whose Left is less comes first.
-	w := clone(v)
+	w := sample.Clone(v)
 	w.Merges[1], w.Merges[2] = w.Merges[2], w.Merges[1]
 	if checkMay(t, w) {
 		t.Error("May with merges that don't rise by Left")
 	}
 	for at := range w.Merges {
-		w = clone(v)
+		w = sample.Clone(v)
 		w.Merges = slices.Insert(w.Merges, at, w.Merges[at])
 		if checkMay(t, w) {
 			t.Errorf("May with merge %d twice", at)
 		}
 		last := v.Merges[at]
 		last.Order = 2000
-		w = clone(v)
+		w = sample.Clone(v)
 		w.Merges = append(w.Merges, last)
 		if checkMay(t, w) {
 			t.Errorf("May with merge %d twice, in two orders", at)
@@ -687,7 +672,7 @@ func TestMayOrders(t *testing.T) {
 func TestMaySpecials(t *testing.T) {
 	for good, cases := range specialCases() {
 		for _, l := range cases {
-			v := made(t, rowsOf("", "ab"), []api.Special{{Name: "end", ID: 4095}})
+			v := made(t, sample.Rows("", "ab"), []api.Special{{Name: "end", ID: 4095}})
 			v.Specials = slices.Clone(l)
 			checkMay(t, v)
 			slices.Reverse(v.Specials)
@@ -698,7 +683,7 @@ func TestMaySpecials(t *testing.T) {
 			}
 		}
 	}
-	v := made(t, rowsOf(""), nil)
+	v := made(t, sample.Rows(""), nil)
 	v.Specials = []api.Special{{Name: "end", ID: 257}}
 	if checkMay(t, v) {
 		t.Error("May with a special behind all tokens")
@@ -734,9 +719,9 @@ func change(v *api.Vocab, some *rand.Rand) {
 func TestMayOfMany(t *testing.T) {
 	some := rand.New(rand.NewSource(26))
 	count := [2]int{}
-	good := made(t, rowsOf("ab", "abc", "bc", "ca", "bca"), []api.Special{{Name: "a", ID: 261}, {Name: "c", ID: 263}})
+	good := made(t, sample.Rows("ab", "abc", "bc", "ca", "bca"), []api.Special{{Name: "a", ID: 261}, {Name: "c", ID: 263}})
 	for range 12000 {
-		v := clone(good)
+		v := sample.Clone(good)
 		for range some.Intn(4) {
 			change(&v, some)
 		}
@@ -761,7 +746,7 @@ func TestMadeOfMany(t *testing.T) {
 		for _, n := range some.Perm(len(texts))[:some.Intn(len(texts))] {
 			l = append(l, texts[n])
 		}
-		rows := rowsOf(l...)
+		rows := sample.Rows(l...)
 		if some.Intn(6) == 0 {
 			rows[some.Intn(len(rows))].Rank = []int{-1, 97, 256, 270, 4095, 4096}[some.Intn(6)]
 		}
@@ -788,7 +773,7 @@ func TestMadeOfMany(t *testing.T) {
 func TestWhatIsMadeMayBe(t *testing.T) {
 	some := rand.New(rand.NewSource(28))
 	for range 100 {
-		rows := rowsOf("ab", "abc", "bc", "ca", "bca", "")
+		rows := sample.Rows("ab", "abc", "bc", "ca", "bca", "")
 		ranks := some.Perm(4096)
 		at := map[int]string{}
 		for n := range rows {
@@ -811,7 +796,7 @@ func TestWhatIsMadeMayBe(t *testing.T) {
 
 // P9.1: tokens' numbers and bytes, of any vocabulary.
 func TestOfAndBytes(t *testing.T) {
-	v := made(t, rowsOf("ab", "", "abc"), []api.Special{{Name: "end", ID: 257}})
+	v := made(t, sample.Rows("ab", "", "abc"), []api.Special{{Name: "end", ID: 257}})
 	for n, token := range v.Tokens {
 		s, ok := vocab.Bytes(v, n)
 		if s != token || ok != (token != "") {
@@ -850,7 +835,7 @@ func TestOfAndBytes(t *testing.T) {
 
 // P9.1: specials' names and IDs, of any vocabulary: the first one of several.
 func TestNameAndID(t *testing.T) {
-	v := made(t, rowsOf(), []api.Special{{Name: "end", ID: 300}, {Name: "bos", ID: 299}})
+	v := made(t, sample.Rows(), []api.Special{{Name: "end", ID: 300}, {Name: "bos", ID: 299}})
 	for name, id := range map[string]int{"end": 300, "bos": 299} {
 		if s, ok := vocab.Name(v, id); !ok || s != name || vocab.ID(v, name) != id {
 			t.Error(name, s, ok, vocab.ID(v, name))
@@ -885,7 +870,7 @@ func TestNameAndID(t *testing.T) {
 
 // P9.1: what is handed in isn't kept, and what is answered is new memory.
 func TestApart(t *testing.T) {
-	rows, specials := rowsOf("ab", "bc", "abc"), []api.Special{{Name: "a", ID: 260}, {Name: "b", ID: 261}}
+	rows, specials := sample.Rows("ab", "bc", "abc"), []api.Special{{Name: "a", ID: 260}, {Name: "b", ID: 261}}
 	pairs := []api.Pair{{Left: "a", Right: "b"}, {Left: "b", Right: "c"}, {Left: "ab", Right: "c"}}
 	makers := []func() api.Vocab{
 		func() api.Vocab { return made(t, rows, specials) },
@@ -896,7 +881,7 @@ func TestApart(t *testing.T) {
 	}
 	for n, maker := range makers {
 		v := maker()
-		old := clone(v)
+		old := sample.Clone(v)
 		rows[256].Token, specials[0].Name, specials[1].ID, pairs[0].Left = "xy", "zz", 5, "q"
 		if !same(v, old) {
 			t.Errorf("maker %d: %s has changed with what was handed in", n, show(v))
